@@ -1,0 +1,1 @@
+"""Pairbinds: operators whose precedence is stated pair by pair."""
