@@ -21,18 +21,6 @@ def _holes_and_words(parts):
     return parts[1::2], parts[0::2]
 
 
-def _is_shape(value):
-    """Whether a value is the text of a shape."""
-    if not isinstance(value, str):
-        return False
-    holes, words = _holes_and_words(value.split(" "))
-    if len(holes) < 1 or len(words) < 1 or len(words) > Shape.MOST:
-        return False
-    if not all([hole == HOLE for hole in holes]) or not all([is_word(word) for word in words]):
-        return False
-    return len(set(words)) == len(words)
-
-
 def _kind_of(parts):
     """The kind of the shape with these parts."""
     if parts[0] == HOLE and parts[-1] == HOLE:
@@ -62,6 +50,18 @@ def _checked(word):
     return word
 
 
+def is_shape(value):
+    """Whether a value is the text of a shape."""
+    if not isinstance(value, str):
+        return False
+    holes, words = _holes_and_words(value.split(" "))
+    if len(holes) < 1 or len(words) < 1 or len(words) > Shape.MOST:
+        return False
+    if not all([hole == HOLE for hole in holes]) or not all([is_word(word) for word in words]):
+        return False
+    return len(set(words)) == len(words)
+
+
 def is_name(value):
     """Whether a value is a name of a group."""
     return is_letter_word(value)
@@ -73,7 +73,7 @@ class Shape:
     MOST = 4
 
     def __init__(self, text):
-        if not _is_shape(text):
+        if not is_shape(text):
             raise InvalidShape(text)
         parts = text.split(" ")
         holes, words = _holes_and_words(parts)

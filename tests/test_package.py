@@ -8,6 +8,8 @@ import subprocess
 import sys
 import unittest
 
+from pairbinds import errors
+
 TOP = pathlib.Path(__file__).resolve().parent.parent
 FOLDER = TOP / "pairbinds"
 # What a file may import from outside of the package; nothing in it knows a time, a chance or a file.
@@ -32,8 +34,12 @@ BARRED_WORDS = set("""
 # Run apart, so that what the tests themselves open or ask for is not heard.
 EXERCISE = """
 import sys
-from pairbinds.errors import BindError
+from pairbinds.books import Book
+from pairbinds.errors import BindError, Missing
+from pairbinds.reading import Reader, how_many, read, readings, stuck
 from pairbinds.shapes import Group, Shape
+from pairbinds.ties import Ties
+from pairbinds.trees import check_tree, full_text, is_tree, parts_of, plain, text_of
 from pairbinds.words import is_word, words_of
 heard = []
 sys.addaudithook(lambda event, told: heard.append(event))
@@ -45,10 +51,25 @@ shape.filled('a', 'b', 'c')
 [shape.words, shape.holes, shape.is_plain, shape.outer, len(shape), '?' in shape, repr(shape), shape == shape]
 [repr(Shape.infix('+')), repr(Shape.prefix('-')), repr(Shape.postfix('!'))]
 [repr(Group('a')), repr(Group.parsed('sum infix left'))]
-for call in (words_of, Shape, Group, Group.parsed):
+ties = Ties(['a', 'b', 'c'], [('a', 'b')])
+[ties.names, ties.pairs(), ties.needed(), ties.with_ties(('b', 'c')), ties.above('b'), ties.below('a'), ties.levels()]
+[list(ties.orders()), ties | ties, ties & ties, -ties, ties.is_within(ties), ties == ties, 'a' in ties, len(ties)]
+tree = ('_ + _', ('round', ('word', 'a')), ('word', 'b'))
+[is_tree(tree), check_tree(tree), list(parts_of(tree)), text_of(tree), plain(tree), full_text(tree), repr(ties)]
+book = Book([Group('a')], [('_ + _', 'a'), ('[ _ , _ ]', None)]) | Book.chained()
+[book.groups(), book.operators(), book.ties, book.group_of('_ + _'), book.is_operand('a'), book.unfit(tree)]
+[book.may_stand('_ + _', '_ + _', 0), book.needs(tree), book.with_ties(), book == book, len(book), repr(book)]
+reader = Reader(book)
+[readings(book, 'a + b'), how_many(book, 'a + b'), read(book, '[ a , b ]'), stuck(book, 'a + b + c'), reader('a')]
+[reader.asked, reader.first('a +', 'a')]
+wrong = (words_of, Shape, Group, Group.parsed, check_tree, text_of, ties.above, book.group_of, book.unfit, book.needs,
+         reader, lambda value: read(book, value), lambda value: next(ties.orders(most=value)),
+         lambda value: Book([], [(value, value)]), lambda value: Ties(['a'], [('a', 'a')]))
+for call in wrong:
     try:
         call(None)
-    except BindError as error:
+        assert False
+    except (BindError, Missing) as error:
         repr(error)
 heard = [event for event in heard if event not in ('object.__getattr__', 'object.__setattr__')]
 assert heard == [], heard
@@ -134,6 +155,49 @@ class TestRules(unittest.TestCase):
             for node in ast.walk(tree_of(path)):
                 if isinstance(node, ast.FunctionDef):
                     self.assertLessEqual(node.end_lineno - node.lineno + 1, 40, node.name)
+
+    def test_names_are_free(self):
+        for path in files():
+            tree = tree_of(path)
+            own = {node.name for node in ast.walk(tree) if isinstance(node, ast.ClassDef)}
+            for node in ast.walk(tree):
+                if isinstance(node, ast.ImportFrom):
+                    own |= {alias.name for alias in node.names}
+            for node in ast.walk(tree):
+                if isinstance(node, ast.arg):
+                    bound = node.arg
+                elif isinstance(node, ast.Name) and isinstance(node.ctx, ast.Store):
+                    bound = node.id
+                else:
+                    continue
+                self.assertNotIn(bound, set(dir(builtins)) | own | {"law", "elements", "register", "mro"}, path)
+
+    def test_expressions(self):
+        for path in files():
+            for node in ast.walk(tree_of(path)):
+                self.assertNotIsInstance(node, (ast.GeneratorExp, ast.Await, ast.Set), path)
+                if isinstance(node, ast.Compare) and isinstance(node.ops[0], (ast.Is, ast.IsNot)):
+                    self.assertIsInstance(node.comparators[0], ast.Constant)
+                if isinstance(node, ast.Call):
+                    for given in node.args:
+                        if isinstance(given, ast.Starred):
+                            self.assertIsInstance(given.value, (ast.Name, ast.Attribute), path)
+
+    def test_only_own_errors_are_caught(self):
+        for path in files():
+            for node in ast.walk(tree_of(path)):
+                if isinstance(node, ast.ExceptHandler):
+                    self.assertIsInstance(node.type, ast.Name)
+                    self.assertIn(node.type.id, vars(errors))
+                    self.assertNotIn(node.type.id, dir(builtins))
+
+    def test_each_import_is_used(self):
+        for path in files():
+            tree = tree_of(path)
+            used = {node.id for node in ast.walk(tree) if isinstance(node, ast.Name)}
+            for node in ast.walk(tree):
+                if isinstance(node, ast.ImportFrom):
+                    self.assertLessEqual({alias.name for alias in node.names}, used, path)
 
     def test_no_warnings(self):
         for path in files():

@@ -1,4 +1,7 @@
-"""Values of all kinds that a caller may pass, for the tests of "any other value"."""
+"""What tests of several modules pass: values of all kinds, for "any other value", and books."""
+
+from pairbinds.books import Book
+from pairbinds.shapes import Group
 
 
 def nested(depth, kind):
@@ -19,3 +22,9 @@ OTHERS = (
     ["_", "+", "_"], ("_", "+", "_"), ["a", "infix", "none"], ("a", "infix", "none"),
     nested(30, list), nested(30, tuple),
 )
+
+
+def made(groups, operators, ties=()):
+    """The book with groups as a dict of (kind, side) and operators as a dict of names of groups."""
+    listed = [Group(name, kind, side=side) for name, (kind, side) in groups.items()]
+    return Book(listed, list(operators.items()), ties)
