@@ -151,7 +151,7 @@ class Book:
             raise InvalidNumber(hole)
         return self._stands(child, shape, hole)
 
-    def _is_foreign(self, part):
+    def is_foreign(self, part):
         """Whether a part is of no operator, or an operand that is a word of the book."""
         if part[0] == WORD:
             return not self.is_operand(part[1])
@@ -160,7 +160,7 @@ class Book:
     def unfit(self, tree):
         """The path of the first part that does not fit, or None."""
         for path, part, around, hole in _placed_parts(tree):
-            if self._is_foreign(part) or not self._stands(part[0], around, hole):
+            if self.is_foreign(part) or not self._stands(part[0], around, hole):
                 return path
         return None
 
@@ -168,7 +168,7 @@ class Book:
         """The ascending list of the ties without which a tree does not fit."""
         needed = {}
         for path, part, around, hole in _placed_parts(tree):
-            if self._is_foreign(part) or not self._can_stand(part[0], around, hole):
+            if self.is_foreign(part) or not self._can_stand(part[0], around, hole):
                 raise Unfit(path)
             rivals = self._rivals(part[0], around, hole)
             if rivals is not None and rivals[0] != rivals[1]:
