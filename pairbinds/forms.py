@@ -16,18 +16,29 @@ class Form:
         self.behind = behind
 
 
-def _standing(book, group, side):
+def tied(book):
+    """For each group of a book, the list of the groups that bind tighter."""
+    return {name: book.ties.above(name) for name in book.ties.names}
+
+
+def untied(book):
+    """For each group of a book, the list of all others, since some ties make each of them bind tighter."""
+    names = book.ties.names
+    return {name: [other for other in names if other != name] for name in names}
+
+
+def _standing(tighter, group, side):
     """The groups, and None, of the trees that may stand in an outer hole on a side of a shape of a group."""
-    names = [None] + book.ties.above(group.name)
+    names = [None] + tighter[group.name]
     if group.side in (side, "many"):
         names.append(group.name)
     return {name: True for name in names}
 
 
 class Forms:
-    """The forms of the words of a book."""
+    """The forms of the words of a book, by the groups that may stand in the outer holes of each group."""
 
-    def __init__(self, book):
+    def __init__(self, book, tighter):
         self._book = book
         self._forms = {}
         self._missing = {}
@@ -38,8 +49,8 @@ class Forms:
             if name is None:
                 form = Form((text,), None, {}, {})
             else:
-                before = _standing(book, groups[name], "left")
-                behind = _standing(book, groups[name], "right")
+                before = _standing(tighter, groups[name], "left")
+                behind = _standing(tighter, groups[name], "right")
                 form = Form((text,), name, before, behind)
             self._put(text, kind, form)
 

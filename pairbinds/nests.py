@@ -1,6 +1,5 @@
 """Nests: texts cut into rows, which lie in the shapes and brackets around them."""
 
-from pairbinds.forms import Forms
 from pairbinds.rows import Item, Row
 from pairbinds.shapes import HOLE
 
@@ -18,8 +17,8 @@ class Begun:
 class Nest:
     """A text cut into rows, as far as there is a text with a reading that begins like it."""
 
-    def __init__(self, book, words):
-        self._forms = Forms(book)
+    def __init__(self, forms, words):
+        self._forms = forms
         self._operand = Item(self._forms.of(HOLE))
         # The first one stands for the whole text, the last one is the innermost.
         self._begun = [Begun(None, [])]

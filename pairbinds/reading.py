@@ -2,10 +2,16 @@
 
 from pairbinds.counts import is_number
 from pairbinds.errors import BindError, InvalidNumber, NoReading, TwoReadings
+from pairbinds.forms import Forms, tied
 from pairbinds.nests import Nest
 from pairbinds.words import words_of
 
 MOST_READINGS = 20
+
+
+def _nest_of(book, words):
+    """The nest of some words, by the ties of the book."""
+    return Nest(Forms(book, tied(book)), words)
 
 
 def readings(book, text, *, most=2):
@@ -13,19 +19,19 @@ def readings(book, text, *, most=2):
     words = words_of(text)
     if not is_number(most) or most < 1 or most > MOST_READINGS:
         raise InvalidNumber(most)
-    nest = Nest(book, words)
+    nest = _nest_of(book, words)
     return sorted(nest.row.trees(most)) if nest.stuck_at is None else []
 
 
 def how_many(book, text):
     """The number of the readings of a text."""
-    nest = Nest(book, words_of(text))
+    nest = _nest_of(book, words_of(text))
     return nest.row.ways() if nest.stuck_at is None else 0
 
 
 def read(book, text):
     """The only reading of a text."""
-    nest = Nest(book, words_of(text))
+    nest = _nest_of(book, words_of(text))
     if nest.stuck_at is not None:
         raise NoReading(nest.stuck_at)
     if nest.row.ways() > 1:
@@ -35,7 +41,7 @@ def read(book, text):
 
 def stuck(book, text):
     """The index at which a text can no longer be continued, or None if it has a reading."""
-    return Nest(book, words_of(text)).stuck_at
+    return _nest_of(book, words_of(text)).stuck_at
 
 
 class Reader:

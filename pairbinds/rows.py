@@ -43,7 +43,11 @@ class Row:
         self._items.pop()
         self._columns.pop()
 
-    def _roots(self, start, end):
+    def within(self):
+        """For each item, the list of the rows in its inner holes."""
+        return [list(item.rows) for item in self._items]
+
+    def roots(self, start, end):
         """The pairs (index, form) that a part can have as the root of a tree."""
         places = [(at, kind) for at, kind in _places(start, end) if kind in self._items[at].forms]
         return [(at, self._items[at].forms[kind]) for at, kind in places]
@@ -51,7 +55,7 @@ class Row:
     def _numbers(self, start, end):
         """The numbers of the trees of a part by their groups, without the rows within the items."""
         numbers = {}
-        for at, form in self._roots(start, end):
+        for at, form in self.roots(start, end):
             ways = self._ways_with(at, form, start, end)
             if ways > 0:
                 numbers[form.group] = numbers.get(form.group, 0) + ways
@@ -93,7 +97,7 @@ class Row:
     def _trees_of(self, start, end, groups, most):
         """At most so many of the trees of a part that are of some groups."""
         trees = []
-        for at, form in self._roots(start, end):
+        for at, form in self.roots(start, end):
             if form.group in groups and len(trees) < most and self._ways_with(at, form, start, end) > 0:
                 trees.extend(self._trees_with(at, form, start, end, most - len(trees)))
         return trees

@@ -35,12 +35,19 @@ BARRED_WORDS = set("""
 EXERCISE = """
 import sys
 from pairbinds.books import Book
-from pairbinds.errors import BindError, Missing
+from pairbinds.desk import Desk
+from pairbinds.errors import BindError, Missing, NothingLeft
+from pairbinds.library import Library
+from pairbinds.pages import read_page, write_page
+from pairbinds.partings import least_operand, parting, two_readings
 from pairbinds.reading import Reader, how_many, read, readings, stuck
+from pairbinds.repairs import lacks, repair
 from pairbinds.shapes import Group, Shape
 from pairbinds.ties import Ties
 from pairbinds.trees import check_tree, full_text, is_tree, parts_of, plain, text_of
+from pairbinds.wishes import Answer, Broken, Ringed, Settled, Wishes
 from pairbinds.words import is_word, words_of
+from pairbinds.writing import columns, rounded, written
 heard = []
 sys.addaudithook(lambda event, told: heard.append(event))
 before = set(sys.modules)
@@ -62,14 +69,35 @@ book = Book([Group('a')], [('_ + _', 'a'), ('[ _ , _ ]', None)]) | Book.chained(
 reader = Reader(book)
 [readings(book, 'a + b'), how_many(book, 'a + b'), read(book, '[ a , b ]'), stuck(book, 'a + b + c'), reader('a')]
 [reader.asked, reader.first('a +', 'a')]
+[rounded(book, tree), written(book, tree), columns(book), least_operand(book), two_readings(book)]
+[parting(book, book), lacks(book, tree), repair(book, '[ a + b , c ]'), repair(book, 'a + b + c')]
+wishes = Wishes(book)
+[wishes.said('a', 'a'), wishes.shown(tree), wishes.barred(tree), repr(wishes.answer()), wishes.answer().holds(wishes)]
+[wishes.drop(1), wishes.wishes(), repr(wishes.answer()), wishes.answer().holds(wishes), wishes.drop(3)]
+[wishes.answer().holds(wishes), wishes.chain('a', 'a'), wishes.book(), wishes.twin(), len(wishes), repr(wishes)]
+[Answer().told(), Settled(ties).ties, Ringed([]).chain(), Broken(1, []).chains(), Broken(1, []).number]
+library = Library()
+library.apply(('module', 'm'), ('group', 'm', 'a infix left'), ('operator', 'm', '_ + _', 'a'))
+library.apply(('module', 'n'), ('use', 'n', 'm'), ('operator', 'n', '[ _ ]', None), ('module', 'o'), ('drop', 'o'))
+[library.undo(), library.redo(), library.history(), library.busy, library.modules(), library.uses('n')]
+[library.said('n'), library.book('n'), library.read('n', '[ x ]'), library.kept(), library.computed]
+[library.tried(('tie', 'n', 'a', 'a'), ('drop', 'n'), name='m', text='x'), library.twin() == library]
+[library.set_limit(9), library.limit, 'm' in library, len(library), repr(library)]
+desk = Desk(library=read_page(write_page(library)))
+lines = ('read n [ x + y ]', 'stuck n x +', 'needed n', 'names', 'undo', 'redo', 'group n b infix none', 'what')
+[[desk(line) for line in lines], desk.log(), desk.library(), len(desk)]
 wrong = (words_of, Shape, Group, Group.parsed, check_tree, text_of, ties.above, book.group_of, book.unfit, book.needs,
          reader, lambda value: read(book, value), lambda value: next(ties.orders(most=value)),
-         lambda value: Book([], [(value, value)]), lambda value: Ties(['a'], [('a', 'a')]))
+         lambda value: Book([], [(value, value)]), lambda value: Ties(['a'], [('a', 'a')]),
+         lambda value: written(book, value), lambda value: parting(book, Book([], [])),
+         lambda value: lacks(book, value), lambda value: repair(book, value), wishes.shown, wishes.barred, wishes.drop,
+         library.apply, library.book,
+         lambda value: library.read('m', value), library.set_limit, lambda value: Library().undo(), read_page)
 for call in wrong:
     try:
         call(None)
         assert False
-    except (BindError, Missing) as error:
+    except (BindError, Missing, NothingLeft) as error:
         repr(error)
 heard = [event for event in heard if event not in ('object.__getattr__', 'object.__setattr__')]
 assert heard == [], heard
@@ -187,9 +215,27 @@ class TestRules(unittest.TestCase):
         for path in files():
             for node in ast.walk(tree_of(path)):
                 if isinstance(node, ast.ExceptHandler):
-                    self.assertIsInstance(node.type, ast.Name)
-                    self.assertIn(node.type.id, vars(errors))
-                    self.assertNotIn(node.type.id, dir(builtins))
+                    for caught in node.type.elts if isinstance(node.type, ast.Tuple) else [node.type]:
+                        self.assertIsInstance(caught, ast.Name)
+                        self.assertIn(caught.id, vars(errors))
+                        self.assertNotIn(caught.id, dir(builtins))
+
+    def test_names_of_methods_properties_and_attributes_differ(self):
+        names = {"methods": set(), "properties": set(), "attributes": set()}
+        setters = set()
+        for path in files():
+            for node in ast.walk(tree_of(path)):
+                if isinstance(node, ast.ClassDef):
+                    for row in node.body:
+                        if isinstance(row, ast.FunctionDef):
+                            over = {ast.unparse(one) for one in row.decorator_list}
+                            setters |= {row.name} if row.name + ".setter" in over else set()
+                            is_property = "property" in over or row.name in setters
+                            names["properties" if is_property else "methods"].add(row.name)
+                elif isinstance(node, ast.Attribute) and isinstance(node.ctx, ast.Store):
+                    names["attributes"].add(node.attr)
+        self.assertEqual(names["methods"] & (names["properties"] | names["attributes"]), set())
+        self.assertEqual(names["properties"] & names["attributes"], setters)
 
     def test_each_import_is_used(self):
         for path in files():
