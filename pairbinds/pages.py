@@ -65,7 +65,7 @@ def _done_lines(library, lines):
         if words[0] == "module":
             name = words[-1]
         elif words[0] in PARTS and name is not None:
-            words = [words[0], name, *words[1:]]
+            words = [words[0], name] + words[1:]
         else:
             return at
         if not _is_done(library, words):
